@@ -1,0 +1,1 @@
+"""Beatfabric: from a design in words, through bits, tables and wires, to a configured device."""

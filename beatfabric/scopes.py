@@ -1,0 +1,67 @@
+"""What the walks of flattening know: the modules in use and all that is declared."""
+from beatfabric.errors import BadUse, TooLarge, Twice, Unknown
+from beatfabric.naming import local_name
+
+MOST_COUNTED = 400
+
+
+class Scope:
+    """A module where it is used: its place in the design, its flat name, and its ports."""
+
+    def __init__(self, at, name):
+        self.at = at
+        self.name = name
+        self.prefix = name + "." if name else ""
+        self.numbers = ()
+        # Flat names of what a using module has to bind, in the order of declaring.
+        self.ports = []
+
+    def full_name(self, place, numbers):
+        """The flat name of a place of this module."""
+        return self.prefix + local_name(place, numbers)
+
+
+class Declared:
+    """All that is declared, and how much has been counted."""
+
+    def __init__(self, design):
+        self.design = design
+        self.counted = 0
+        # The kind of each flat name: the word of its item, or the side of a link.
+        self.kinds = {}
+        self.machines = {}
+        self.scopes = {}
+        self.inputs = []
+        self.outputs = []
+        self.wires = []
+        self.regs = []
+        self.mems = []
+
+    def tally(self):
+        """Counts one thing."""
+        self.counted += 1
+        if self.counted > MOST_COUNTED:
+            raise TooLarge("flat")
+
+    def declare(self, name, kind):
+        """Declares a flat name."""
+        if name in self.kinds:
+            raise Twice(name)
+        self.kinds[name] = kind
+
+    def require(self, name, kinds):
+        """Looks for a flat name that must be declared as one of some kinds."""
+        if name not in self.kinds:
+            raise Unknown(name)
+        if self.kinds[name] not in kinds:
+            raise BadUse(name)
+
+
+def first_double(names):
+    """The first name that one ahead of it is, None if there is none."""
+    seen = {}
+    for name in names:
+        if name in seen:
+            return name
+        seen[name] = True
+    return None
