@@ -81,36 +81,41 @@ class Recoding:
         self.graph = graph
         self.nodes = Nodes()
         self.places = []
-        # The new node of each recoded register, its width, and its codes as a dict.
+        # The new width and the codes, as a dict, of each register whose words change.
         self.entries = {}
         for reg, width, codes in paper:
-            self.entries[reg] = (self.nodes.made(("reg", width, reg)), width, dict(codes))
+            if width != graph[3][reg][1] or any([old != new for old, new in codes]):
+                self.entries[reg] = (width, dict(codes))
+
+    def code_node(self, reg):
+        """The node of a recoded register itself."""
+        width, _ = self.entries[reg]
+        return self.nodes.made(("reg", width, reg))
 
     def code_const(self, reg, old):
         """The const of the new word of an old one."""
-        _, width, codes = self.entries[reg]
+        width, codes = self.entries[reg]
         return self.nodes.const(width, codes[old])
 
     def same(self, reg, old):
         """The node that is 1 if a recoded register stands for an old word."""
-        place, width, codes = self.entries[reg]
+        width, codes = self.entries[reg]
         if old not in codes:
             return self.nodes.const(1, 0)
+        own = self.code_node(reg)
         bit = telling_bit(codes, old)
-        if bit is not None:
-            return place if width == 1 else self.nodes.made(("bits", 1, place, bit))
-        return self.nodes.made(("eq", 1, place, self.code_const(reg, old)))
+        if bit is None:
+            return self.nodes.made(("eq", 1, own, self.code_const(reg, old)))
+        return own if width == 1 else self.nodes.made(("bits", 1, own, bit))
 
     def decoded(self, reg):
         """The node that has the old word of a recoded register."""
-        place, width, codes = self.entries[reg]
-        old_width = self.graph[3][reg][1]
-        if width == old_width and all([old == codes[old] for old in codes]):
-            return place
+        _, codes = self.entries[reg]
+        width = self.graph[3][reg][1]
         olds = sorted(codes)
-        node = self.nodes.const(old_width, olds[-1])
+        node = self.nodes.const(width, olds[-1])
         for old in reversed(olds[:-1]):
-            node = self.nodes.pick(self.same(reg, old), self.nodes.const(old_width, old), node)
+            node = self.nodes.pick(self.same(reg, old), self.nodes.const(width, old), node)
         return node
 
     def compared(self, node):
@@ -128,11 +133,11 @@ class Recoding:
         """The new node of a node, when those ahead of it have theirs."""
         if node[0] == "reg" and node[2] in self.entries:
             return self.decoded(node[2])
-        compared = self.compared(node)
-        if compared is None:
+        pair = self.compared(node)
+        if pair is None:
             return self.nodes.made(moved(node, self.places))
-        same = self.same(compared[0], compared[1])
-        return same if node[0] == "eq" else self.nodes.made(("not", 1, same))
+        equal = self.same(pair[0], pair[1])
+        return equal if node[0] == "eq" else self.nodes.made(("not", 1, equal))
 
     def coded_next(self, reg):
         """The node that has the new word of the next of a recoded register."""
@@ -144,7 +149,7 @@ class Recoding:
             if node[0] == "const":
                 coded[at] = self.code_const(reg, node[2])
             elif node[0] == "reg":
-                coded[at] = self.entries[reg][0]
+                coded[at] = self.code_node(reg)
             else:
                 coded[at] = self.nodes.pick(self.places[node[2]], coded[node[3]], coded[node[4]])
         return coded[follow]
@@ -154,7 +159,7 @@ class Recoding:
         name, width, start, follow = self.graph[3][at]
         if at not in self.entries:
             return (name, width, start, self.places[follow])
-        _, new_width, codes = self.entries[at]
+        new_width, codes = self.entries[at]
         return (name, new_width, codes[start], self.coded_next(at))
 
 
