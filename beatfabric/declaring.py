@@ -1,25 +1,18 @@
 """The declaring walk of flattening."""
 from beatfabric.consts import bounded_value, const_value
 from beatfabric.errors import BadNumber, BadUse, Twice, Unknown
-from beatfabric.naming import copies_of
-from beatfabric.scopes import Declared, Scope, first_double
+from beatfabric.scopes import Declared, Scope, Walk, first_double
 from beatfabric.words import MOST_WIDTH, room_width
 
 MOST_SIZE = 8
 MOST_STATES = 16
 
 
-class Declaring:
-    """The walk; what is still to be looked at stands in todo, the next thing last."""
+class Declaring(Walk):
+    """The declaring walk through a design."""
 
     def __init__(self, design):
-        self.known = Declared(design)
-        self.todo = []
-
-    def put_ahead(self, scope, numbers, parts):
-        """Puts parts ahead of all that is still to be looked at."""
-        for part in reversed(parts):
-            self.todo.append((scope, numbers, part))
+        Walk.__init__(self, Declared(design))
 
     def enter(self, scope, given):
         """Enters a module with numbers for its parameters."""
@@ -32,24 +25,15 @@ class Declaring:
         scope.numbers = tuple(zip(params, given))
         self.put_ahead(scope, scope.numbers, parts)
 
-    def walk(self):
-        """Looks at all that is to be looked at."""
-        while self.todo:
-            scope, numbers, part = self.todo.pop()
-            word = part[0]
-            if word == "for":
-                for inner in reversed(copies_of(part, numbers)):
-                    self.todo.append((scope, inner, ("copy", part[4])))
-            elif word == "copy":
-                self.known.tally()
-                self.put_ahead(scope, numbers, part[1])
-            elif word == "use":
-                self.known.tally()
-                self.declare_use(scope, numbers, part)
-            elif word in DECLARERS:
-                self.known.tally()
-                action = DECLARERS[word]
-                action(self.known, scope, numbers, part)
+    def look_at(self, scope, numbers, part):
+        """Declares an item, if it is one that declares."""
+        if part[0] == "use":
+            self.known.tally()
+            self.declare_use(scope, numbers, part)
+        elif part[0] in DECLARERS:
+            self.known.tally()
+            action = DECLARERS[part[0]]
+            action(self.known, scope, numbers, part)
 
     def declare_use(self, scope, numbers, part):
         """Declares a use and enters its module."""

@@ -54,9 +54,9 @@ class GraphMaker:
         return found
 
     def ways(self, statement):
-        """Pairs (condition, part) of an `if` or `case`; the first one that holds is gone through.
+        """Pairs (condition, part) of an `if` or `case`; at most one condition holds.
 
-        The last condition is not looked at: if none ahead of it holds, it does.
+        The part with the condition None, which stands last, is gone through if no condition holds.
         """
         word, head, inner, last = statement
         if word == "if":
@@ -67,7 +67,7 @@ class GraphMaker:
             ways.append((None, last))
         return ways
 
-    def last_set(self, body, kept):
+    def set_node(self, body, kept):
         """The node of the last `set` of a body that is gone through, kept if there is none.
 
         None stands for a word that does not count: a later `set` comes on every way.
@@ -81,18 +81,23 @@ class GraphMaker:
         return node
 
     def chosen(self, ways, kept):
-        """The node of the last `set` in the way that is gone through."""
-        ends = [self.last_set(part, kept) for _, part in ways]
-        node = ends[-1]
-        for at in reversed(range(len(ways) - 1)):
-            if node is None:
-                node = ends[at]
-            elif ends[at] is not None:
+        """The node of the last `set` in the way that is gone through.
+
+        At most one condition holds, so ways that end as the last one need no pick.
+        """
+        ends = [self.set_node(part, kept) for _, part in ways]
+        base = None
+        node = None
+        for at in reversed(range(len(ways))):
+            if base is None:
+                base = ends[at]
+                node = base
+            elif ends[at] is not None and ends[at] != base:
                 node = self.nodes.pick(ways[at][0], ends[at], node)
         return node
 
-    def writes_of(self, body, around):
-        """The writes of a body that sets one memory, under a condition around it."""
+    def write_nodes(self, body, around):
+        """The writes of a body that writes one memory, under a condition around it."""
         writes = []
         for statement in body:
             if statement[0] == "write":
@@ -100,26 +105,26 @@ class GraphMaker:
                 address = self.node_of(statement[2])
                 writes.append((condition, address, self.node_of(statement[3])))
             else:
-                writes.extend(self.writes_in(self.ways(statement), around))
+                writes.extend(self.way_writes(self.ways(statement), around))
         return writes
 
-    def writes_in(self, ways, around):
+    def way_writes(self, ways, around):
         """The writes in the ways of an `if` or `case`."""
         writes = []
         rest = around
-        for at, (condition, part) in enumerate(ways):
-            is_last = at == len(ways) - 1
-            here = rest if is_last else self.both(rest, condition)
-            if not is_last:
+        for condition, part in ways:
+            if condition is None:
+                writes.extend(self.write_nodes(part, rest))
+            else:
+                writes.extend(self.write_nodes(part, self.both(around, condition)))
                 rest = self.both(rest, self.opposite(condition))
-            writes.extend(self.writes_of(part, here))
         return writes
 
     def next_of(self, row):
         """The node of the next of a register."""
         name, start, (when, reset), body = row
         own = self.named[name]
-        node = self.last_set(body, own)
+        node = self.set_node(body, own)
         if when is not None:
             node = self.nodes.pick(self.node_of(when), node, own)
         if reset is not None:
@@ -133,7 +138,7 @@ def graph_of(flat):
     plan = Plan(flat)
     maker = GraphMaker(flat)
     for name in in_order(list(plan.bodies), plan.links):
-        maker.named[name] = maker.last_set(plan.bodies[name], None)
+        maker.named[name] = maker.set_node(plan.bodies[name], None)
     shown = tuple([(name, maker.named[name]) for name, _ in outputs])
     claimed = tuple([(name, maker.node_of(expr)) for (name, _), expr in zip(claims, plan.claims)])
     states = []
@@ -141,5 +146,5 @@ def graph_of(flat):
         states.append((name, width, start, maker.next_of(row)))
     stores = []
     for (name, width, size), (_, _, body) in zip(mems, plan.mems):
-        stores.append((name, width, size, tuple(maker.writes_of(body, None))))
+        stores.append((name, width, size, tuple(maker.write_nodes(body, None))))
     return lean_graph(("graph", inputs, tuple(maker.nodes.rows), tuple(states), tuple(stores), shown, claimed))

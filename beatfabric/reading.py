@@ -38,14 +38,14 @@ def read_else(reader):
     return read_parts(reader, read_statement) if reader.comes("else") else ()
 
 
-def read_set(reader):
-    """Reads a `set`."""
-    reader.need("set")
+def read_assigned(reader):
+    """Reads a `set` or `claim`."""
+    word = reader.taken()
     place = read_place(reader)
     reader.need("=")
     expr = read_expr(reader)
     reader.need(";")
-    return ("set", place, expr)
+    return (word, place, expr)
 
 
 def read_if(reader):
@@ -213,16 +213,6 @@ def read_use(reader):
     return ("use", place, module, given, read_parts(reader, read_bind))
 
 
-def read_claim(reader):
-    """Reads a `claim`."""
-    reader.need("claim")
-    place = read_place(reader)
-    reader.need("=")
-    expr = read_expr(reader)
-    reader.need(";")
-    return ("claim", place, expr)
-
-
 def read_give(reader):
     """Reads a `give`."""
     reader.need("give")
@@ -244,7 +234,7 @@ def read_take(reader):
 
 
 STATEMENTS = {
-    "set": read_set,
+    "set": read_assigned,
     "if": read_if,
     "case": read_case,
     "write": read_write,
@@ -261,10 +251,10 @@ ITEMS = {
     "states": read_states,
     "link": read_link,
     "use": read_use,
-    "claim": read_claim,
+    "claim": read_assigned,
     "give": read_give,
     "take": read_take,
-    "set": read_set,
+    "set": read_assigned,
     "if": read_if,
     "case": read_case,
     "write": read_write,

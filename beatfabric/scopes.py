@@ -1,6 +1,6 @@
 """What the walks of flattening know: the modules in use and all that is declared."""
 from beatfabric.errors import BadUse, TooLarge, Twice, Unknown
-from beatfabric.naming import local_name
+from beatfabric.naming import copies_of, local_name
 
 MOST_COUNTED = 400
 
@@ -55,6 +55,36 @@ class Declared:
             raise Unknown(name)
         if self.kinds[name] not in kinds:
             raise BadUse(name)
+
+
+class Walk:
+    """A walk through the items of modules; what is still to be looked at stands in todo, the next thing last."""
+
+    def __init__(self, known):
+        self.known = known
+        self.todo = []
+
+    def put_ahead(self, scope, numbers, parts):
+        """Puts parts ahead of all that is still to be looked at."""
+        for part in reversed(parts):
+            self.todo.append((scope, numbers, part))
+
+    def look_at(self, scope, numbers, part):
+        """Looks at an item that is no `for`; each kind of walk has its own way."""
+        pass
+
+    def walk(self):
+        """Looks at all that is to be looked at."""
+        while self.todo:
+            scope, numbers, part = self.todo.pop()
+            if part[0] == "for":
+                for inner in reversed(copies_of(part, numbers)):
+                    self.todo.append((scope, inner, ("copy", part[4])))
+            elif part[0] == "copy":
+                self.known.tally()
+                self.put_ahead(scope, numbers, part[1])
+            else:
+                self.look_at(scope, numbers, part)
 
 
 def first_double(names):

@@ -3,6 +3,7 @@ from beatfabric.consts import const_value
 from beatfabric.errors import BadUse, Twice
 from beatfabric.flatexprs import flat_expr, flat_guard, required, state_word
 from beatfabric.naming import copies_of
+from beatfabric.scopes import Walk
 
 GIVING = ("own", "out")
 TAKING = ("own", "in")
@@ -74,47 +75,33 @@ def flat_body(known, scope, numbers, parts):
     return tuple(body)
 
 
-class Stating:
-    """The walk; what is still to be looked at stands in todo, the next thing last."""
+class Stating(Walk):
+    """The stating walk through all that is declared."""
 
     def __init__(self, known):
-        self.known = known
-        self.todo = []
+        Walk.__init__(self, known)
         self.body = []
+        # The `when` and `reset` of each register.
         self.guards = {}
         self.claims = []
         self.claimed = {}
 
-    def enter(self, scope):
-        """Enters a module."""
+    def state_module(self, scope):
+        """States the items of a module next."""
         _, _, _, parts = self.known.design[scope.at]
         self.put_ahead(scope, scope.numbers, parts)
 
-    def put_ahead(self, scope, numbers, parts):
-        """Puts parts ahead of all that is still to be looked at."""
-        for part in reversed(parts):
-            self.todo.append((scope, numbers, part))
-
-    def walk(self):
-        """Looks at all that is to be looked at."""
-        while self.todo:
-            scope, numbers, part = self.todo.pop()
-            word = part[0]
-            if word == "for":
-                for inner in reversed(copies_of(part, numbers)):
-                    self.todo.append((scope, inner, ("copy", part[4])))
-            elif word == "copy":
-                self.known.tally()
-                self.put_ahead(scope, numbers, part[1])
-            elif word == "use":
-                self.state_use(scope, numbers, part)
-            elif word == "reg":
-                self.state_reg(scope, numbers, part)
-            elif word in ("claim", "give", "take"):
-                self.known.tally()
-                self.state_item(scope, numbers, part)
-            elif word in STATEMENTS:
-                self.body.append(flat_statement(self.known, scope, numbers, part))
+    def look_at(self, scope, numbers, part):
+        """States an item, if it is one that states."""
+        if part[0] == "use":
+            self.state_use(scope, numbers, part)
+        elif part[0] == "reg":
+            self.state_reg(scope, numbers, part)
+        elif part[0] in ("claim", "give", "take"):
+            self.known.tally()
+            self.state_item(scope, numbers, part)
+        elif part[0] in STATEMENTS:
+            self.body.append(flat_statement(self.known, scope, numbers, part))
 
     def state_item(self, scope, numbers, part):
         """States a `claim`, `give` or `take`."""
@@ -174,11 +161,11 @@ class Stating:
         for port in inner.ports:
             if port not in bound:
                 raise BadUse(port)
-        self.enter_use(inner)
+        self.state_inner(inner)
 
-    def enter_use(self, scope):
-        """Enters the module of a use."""
-        self.enter(scope)
+    def state_inner(self, scope):
+        """States the items of the module of a use next."""
+        self.state_module(scope)
 
     def state_tie(self, port, scope, numbers, place):
         """Ties a link of a used module to one of the using module."""
@@ -214,6 +201,6 @@ class Stating:
 
 def walk_stating(walk):
     """Does the walk through all that is declared; returns the flat design."""
-    walk.enter(walk.known.scopes[""])
+    walk.state_module(walk.known.scopes[""])
     walk.walk()
     return walk.flat()

@@ -30,7 +30,7 @@ class PartStating(Stating):
         # The uses in order, each with how many claims stand ahead of it.
         self.entered = []
 
-    def enter_use(self, scope):
+    def state_inner(self, scope):
         """Notes where a use stands; its module states its items itself."""
         self.entered.append((scope.name, len(self.claims)))
 
