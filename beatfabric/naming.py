@@ -19,15 +19,3 @@ def copies_of(tree, numbers):
     first = const_value(low, numbers)
     end = const_value(high, numbers)
     return [numbers + ((name, value),) for value in range(first, end)]
-
-
-def spread(parts, numbers):
-    """Pairs (part, numbers) of items or statements, with the copies of each `for` in its place."""
-    rows = []
-    for part in parts:
-        if part[0] == "for":
-            for inner in copies_of(part, numbers):
-                rows.extend(spread(part[4], inner))
-        else:
-            rows.append((part, numbers))
-    return rows

@@ -79,7 +79,7 @@ TWO_WORDS = {
 }
 
 
-def one_word_result(op, width, inner, word, low):
+def one_word_result(op, inner, word, low):
     """The result of an operation on one word of the width inner, not yet cut to its own width."""
     full = (1 << inner) - 1
     if op == "not":
@@ -89,7 +89,7 @@ def one_word_result(op, width, inner, word, low):
     if op == "bits":
         return word >> low
     if op == "sign" and word >> (inner - 1):
-        return word + (1 << width) - (1 << inner)
+        return word - (1 << inner)
     if op == "any":
         return int(word > 0)
     if op == "all":
@@ -109,7 +109,7 @@ def result(op, width, widths, words, low=0):
     elif op == "join":
         word = (words[0] << widths[1]) + words[1]
     else:
-        word = one_word_result(op, width, widths[0], words[0], low)
+        word = one_word_result(op, widths[0], words[0], low)
     return word & ((1 << width) - 1)
 
 

@@ -116,6 +116,9 @@ class DriversTest(CheckTest):
         self.good(start + "if a { set x = a; } else { set x = a; }")
         self.fault(Undriven, "x", start + "if a { set x = a; }")
         self.fault(Undriven, "x", start + "if a { } else { set x = a; }")
+        self.fault(Undriven, "x", start + "wire z : 1; if a { set x = a; } else { set z = a; }")
+        self.fault(Undriven, "x", start + "mem q : 1 [ 1 ]; if a { set x = a; } else { write q[a] = a; }")
+        self.fault(Undriven, "x", start + "reg r : 1 = 0; if a { set r = a; } else { set x = a; }")
         self.good(start + "if a { if a { set x = a; } set x = ~a; } else { set x = a; if a { set x = a; } }")
         self.fault(Undriven, "x", start + "if a { set x = a; } else { if a { set x = a; } if ~a { set x = a; } }")
 

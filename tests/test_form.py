@@ -5,6 +5,8 @@ import pathlib
 import re
 import unittest
 
+from beatfabric import errors
+
 ROOT = pathlib.Path(__file__).resolve().parent.parent / "beatfabric"
 FILES = sorted(ROOT.glob("*.py"))
 
@@ -195,6 +197,24 @@ class FormTest(unittest.TestCase):
 
         for name in needs:
             visit(name, [])
+
+    def test_everything_is_used(self):
+        from tests.test_interface import CLASSES, FUNCTIONS
+        told = {name for functions in FUNCTIONS.values() for name in functions}
+        told |= {name for name, _, _ in CLASSES.values()} | set(vars(errors))
+        used = set()
+        for _, _, tree in parsed():
+            for node in ast.walk(tree):
+                if isinstance(node, ast.Name) and isinstance(node.ctx, ast.Load):
+                    used.add(node.id)
+                if isinstance(node, ast.Attribute) and isinstance(node.ctx, ast.Load):
+                    used.add(node.attr)
+        for path, _, tree in parsed():
+            for node in ast.walk(tree):
+                if isinstance(node, (ast.FunctionDef, ast.ClassDef)) and node.name not in used | told | DUNDERS:
+                    self.assertIn(node.name, "beat beats resume tried state", f"{path.name}: {node.name}")
+            for name in defined_in(tree):
+                self.assertIn(name, used | told, path.name)
 
     def test_functions(self):
         for path, _, tree in parsed():

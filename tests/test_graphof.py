@@ -61,6 +61,10 @@ class GraphOfTest(unittest.TestCase):
             "case a { at 0, 3 { set y = r; if b { set y = word(2, 4); } } at 1 { if b { set y = word(9, 4); set r = y; }"
             "set y = word(3, 4); } else { if b { set r = word(1, 4); } else { set r = word(2, 4); } set y = ~r; } }"
         ))
+        self.of((
+            "input a : 2; output y : 2; if any(a) { if odd(a) { } else { set y = a; } set y = ~a; if all(a) { set y = -a; } }"
+            "else { case a { at 0 { set y = a; } at 1 { } at 2 { set y = -a; } at 3 { } } set y = a + word(1, 2); }"
+        ))
         self.of("input a : 1; output y : 2; case a { at 1 { set y = word(2, 2); } at 0 { set y = word(1, 2); } }")
         self.of("input a : 1; output y : 2; case a { at 1, 0 { set y = word(2, 2); } else { set y = word(1, 2); } }")
         self.of("input a : 3; output y : 3; case a { else { set y = ~a; } }")

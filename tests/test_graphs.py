@@ -141,7 +141,7 @@ class JudgeTest(unittest.TestCase):
             ("input", 1, 0), ("input", 3, 2), ("input", 3, -1), ("input", 3, -2), ("input", 3), ("input", 3, 0, 0),
             ("reg", 3, 0), ("reg", 2, 1), ("reg", 2, -1), ("load", 3, 0, 0), ("load", 4, 1, 0), ("load", 4, -1, 0),
             ("load", 4, 0, 9), ("load", 4, 0, -1), ("load", 4, 0), ("load", 4, 0, 0, 0), ("const", 3, 8),
-            ("const", 3, -1), ("const", 3), ("const", 3, 0, 0), ("none", 1, 0), ("", 1), ("const", 8, 256),
+            ("not",), ("const",), ("input",), ("const", 3, -1), ("const", 3), ("const", 3, 0, 0), ("none", 1, 0), ("", 1), ("const", 8, 256),
         ):
             self.bad(with_node(node))
 
