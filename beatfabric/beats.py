@@ -1,5 +1,5 @@
 """Runs of flat designs."""
-from beatfabric.bodies import in_order
+from beatfabric.ordering import in_order
 from beatfabric.plans import Plan, last_set, word_of
 from beatfabric.trials import Trial
 

@@ -1,6 +1,7 @@
 """Other codes for what registers contain: the judge, the recoded graph and the finder."""
 from beatfabric.graphmaking import Nodes, lean_graph
-from beatfabric.graphs import all_different, is_thing, is_width, moved
+from beatfabric.graphs import is_width, moved
+from beatfabric.numbering import all_different, are_ascending, is_thing
 from beatfabric.words import MOST_WIDTH, room_width
 
 
@@ -31,11 +32,6 @@ def picked_words(graph, reg):
         elif node[0] != "pick" and node != ("reg", regs[reg][1], reg):
             return None
     return sorted(words)
-
-
-def are_ascending(numbers):
-    """Whether each number is greater than the one ahead of it."""
-    return all([low < high for low, high in zip(numbers, numbers[1:])])
 
 
 def are_words(words, width):

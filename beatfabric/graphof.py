@@ -1,6 +1,6 @@
 """Makes the graph of a flat design."""
-from beatfabric.bodies import in_order
 from beatfabric.graphmaking import Nodes, lean_graph
+from beatfabric.ordering import in_order
 from beatfabric.plans import Plan
 
 

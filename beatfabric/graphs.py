@@ -1,4 +1,5 @@
 """Graphs of words: their judge, and what is lean."""
+from beatfabric.numbering import all_different, is_thing
 from beatfabric.sized import op_width
 from beatfabric.words import MOST_WIDTH
 
@@ -36,19 +37,9 @@ def moved(node, places):
     return node
 
 
-def is_thing(number, many):
-    """Whether a number is one of so many things."""
-    return 0 <= number < many
-
-
 def is_width(width):
     """Whether a number is a width."""
     return 1 <= width <= MOST_WIDTH
-
-
-def all_different(names):
-    """Whether no name stands twice among names."""
-    return len(set(names)) == len(names)
 
 
 def has_width(nodes, number, width):

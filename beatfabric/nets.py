@@ -1,4 +1,5 @@
 """Nets of bits: their judge, and what belongs to their nodes."""
+from beatfabric.numbering import all_different, is_thing
 
 
 def first_and(net):
@@ -18,11 +19,6 @@ def ends_of(net):
     return [literal for _, literal in outputs + claims] + [follow for _, _, follow in regs]
 
 
-def are_different(names):
-    """Whether no name stands twice among names."""
-    return len(set(names)) == len(names)
-
-
 def is_net(net):
     """Whether a net is right."""
     word, inputs, regs, ands, outputs, claims = net
@@ -30,15 +26,15 @@ def is_net(net):
         return False
     many = first_and(net) + len(ands)
     for at, left, right in ands_of(net):
-        if not 0 <= left < 2 * at or not 0 <= right < 2 * at:
+        if not is_thing(left, 2 * at) or not is_thing(right, 2 * at):
             return False
-    if not all([0 <= literal < 2 * many for literal in ends_of(net)]):
+    if not all([is_thing(literal, 2 * many) for literal in ends_of(net)]):
         return False
     if not all([start in (0, 1) for _, start, _ in regs]):
         return False
-    if not are_different(list(inputs) + [name for name, _, _ in regs]):
+    if not all_different(list(inputs) + [name for name, _, _ in regs]):
         return False
-    return are_different([name for name, _ in outputs]) and are_different([name for name, _ in claims])
+    return all_different([name for name, _ in outputs]) and all_different([name for name, _ in claims])
 
 
 def heights(net):

@@ -1,6 +1,6 @@
 """The modules of a design as they stand in its tree, each of them one of its own."""
-from beatfabric.bodies import in_order
 from beatfabric.declaring import Declaring, walk_declaring
+from beatfabric.ordering import in_order
 from beatfabric.plans import Plan
 from beatfabric.stating import Stating, walk_stating
 

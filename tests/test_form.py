@@ -32,6 +32,7 @@ DUNDERS = set("__init__ __enter__ __exit__".split())
 ITERATED = set("zip enumerate reversed range".split())
 VIEWS = set("items keys values".split())
 ITERATING = set("list tuple dict sorted sum any all enumerate zip".split())
+LIBRARY = {"heapq": ("heapify", "heappop", "heappush")}
 NODES = (
     ast.Module, ast.FunctionDef, ast.ClassDef, ast.ImportFrom, ast.alias, ast.arguments, ast.arg, ast.Assign,
     ast.AugAssign, ast.If, ast.While, ast.For, ast.Return, ast.Break, ast.Continue, ast.Pass, ast.Raise, ast.Expr,
@@ -179,6 +180,9 @@ class FormTest(unittest.TestCase):
                     continue
                 self.assertLess(at, len(tree.body) - len(others) + 1, path.name)
                 self.assertEqual(node.level, 0, path.name)
+                if node.module in LIBRARY:
+                    self.library(path, tree, node)
+                    continue
                 self.assertIn(node.module, trees, path.name)
                 needs[own].append(node.module)
                 for alias in node.names:
@@ -197,6 +201,15 @@ class FormTest(unittest.TestCase):
 
         for name in needs:
             visit(name, [])
+
+    def library(self, path, tree, node):
+        """What is imported from Python's library is called, in functions."""
+        called = [call.func for call in ast.walk(tree) if isinstance(call, ast.Call) and not call.keywords]
+        for alias in node.names:
+            self.assertIn(alias.name, LIBRARY[node.module])
+            self.assertIsNone(alias.asname, path.name)
+            uses = [n for n in ast.walk(tree) if isinstance(n, ast.Name) and n.id == alias.name]
+            self.assertTrue(uses and all(use in called for use in uses), f"{path.name}: {alias.name}")
 
     def test_everything_is_used(self):
         from tests.test_interface import CLASSES, FUNCTIONS

@@ -21,12 +21,32 @@ FUNCTIONS = {
     "codes": {"judge_codes": "graph paper", "recoded": "graph paper", "code_paper": "graph style"},
     "nets": {"is_net": "net", "heights": "net", "support": "net nodes"},
     "tidy": {"tidied": "net", "bared": "net"},
+    "netof": {"net_of": "graph shapes=('ripple','rows','steps','halves')"},
+    "rewriting": {"judge_rewriting": "net paper", "rewritten": "net paper"},
+    "rewrites": {"rewrites": "net"},
+    "balance": {"least_heights": "net", "balanced": "net"},
+    "clauses": {"clauses_of": "net", "judge_refutation": "net given assumed steps"},
+    "refuting": {"refutation": "net given assumed"},
+    "merges": {"judge_merges": "net paper", "merged": "net paper"},
+    "sweeping": {"merges_of": "net"},
+    "bonds": {"judge_bonds": "net paper", "bonded": "net paper"},
+    "bonding": {"bonds_of": "net"},
+    "traces": {"held_of": "net", "traced": "net literal"},
+    "lags": {"judge_lags": "net lags", "clock_of": "net lags"},
+    "retiming": {"retimed": "net lags"},
+    "leastclock": {"least_clock": "net", "judge_bar": "net clock bar"},
+    "covers": {"judge_cover": "net k cover", "depth_of": "net cover"},
+    "levels": {"levels": "net k"},
+    "bars": {"level_bars": "net k", "judge_level_bars": "net k levels bars"},
+    "covering": {"cover_of": "net k"},
+    "tables": {"tables_of": "net cover"},
 }
 CLASSES = {
     "treeruns": ("DesignRun", "design numbers=()", "beat beats"),
     "beats": ("FlatRun", "flat", "beat beats state resume trial tried"),
     "graphruns": ("GraphRun", "graph", "beat beats state resume"),
     "netruns": ("NetRun", "net", "beat beats state resume trial tried"),
+    "tables": ("TablesRun", "tables", "beat beats state resume"),
 }
 METHODS = {"beat": "given", "beats": "rows", "resume": "state", "trial": "", "tried": "rows"}
 
