@@ -1,4 +1,6 @@
-"""Random right nets, for the tests."""
+"""Random right nets, and what is compared of nets, for the tests."""
+from beatfabric.netruns import NetRun
+from beatfabric.tidy import tidied
 
 
 def random_net(source, inputs=3, regs=3, ands=12, ends=3):
@@ -21,3 +23,54 @@ def random_net(source, inputs=3, regs=3, ands=12, ends=3):
 
 def rows_of_bits(source, net, many):
     return [tuple(source.randrange(2) for _ in net[1]) for _ in range(many)]
+
+
+def random_tidy_net(source, inputs=3, regs=3, ands=20, ends=5):
+    """A tidy net in which many nodes are used several times."""
+    return tidied(random_net(source, inputs, regs, ands, ends))
+
+
+def node_tables(net):
+    """For each node an integer: its bit with number b is that of the node when source j has bit j of b.
+
+    The sources are the inputs and then the registers.
+    """
+    _, inputs, regs, ands, _, _ = net
+    many = len(inputs) + len(regs)
+    tables = [0]
+    for at in range(many):
+        tables.append(sum(1 << b for b in range(1 << many) if b >> at & 1))
+    full = (1 << (1 << many)) - 1
+    for left, right in ands:
+        tables.append(bits_of(tables, left, full) & bits_of(tables, right, full))
+    return tables
+
+
+def bits_of(tables, literal, full):
+    return tables[literal // 2] ^ (full if literal & 1 else 0)
+
+
+def end_tables(net):
+    """The tables of the outputs, the claims and the nexts."""
+    tables = node_tables(net)
+    full = (1 << (1 << (len(net[1]) + len(net[2])))) - 1
+    literals = [x for _, x in net[4] + net[5]] + [x for _, _, x in net[2]]
+    return [bits_of(tables, x, full) for x in literals]
+
+
+def names_of(net):
+    """All that a pass over the ands keeps: the names in order, and the starts."""
+    return (
+        net[1], [row[:2] for row in net[2]], [name for name, _ in net[4]], [name for name, _ in net[5]],
+    )
+
+
+def shown(net, rows):
+    return list(NetRun(net).beats(rows))
+
+
+def is_plain(tree):
+    """Whether an answer is made of tuples, integers, strings and None alone."""
+    if type(tree) is tuple:
+        return all(is_plain(part) for part in tree)
+    return tree is None or type(tree) in (int, str)
