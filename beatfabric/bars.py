@@ -1,6 +1,6 @@
 """Bar papers for levels: the judge and the finder."""
 from beatfabric.flows import Flow
-from beatfabric.levels import node_levels
+from beatfabric.levels import levelled
 from beatfabric.nets import ands_of, first_and, operand_nodes
 
 
@@ -44,7 +44,7 @@ def judge_level_bars(net, k, levels, bars):
 
 def level_bars(net, k):
     """A bar paper for the least levels of a tidy net."""
-    rows = node_levels(net, k)
+    rows = levelled(net, k).rows
     bars = []
     for node, _, _ in ands_of(net):
         if rows[node] == 1:

@@ -1,7 +1,6 @@
 """Finds covers of least depth."""
 from beatfabric.covers import is_source
-from beatfabric.flows import Flow
-from beatfabric.levels import node_levels
+from beatfabric.levels import levelled
 from beatfabric.nets import ends_of, first_and, operand_nodes
 
 
@@ -11,9 +10,9 @@ class Covering:
     def __init__(self, net, k):
         self.net = net
         self.k = k
-        self.rows = node_levels(net, k)
+        self.cuts = levelled(net, k).cuts
         self.entries = {}
-        self.uses = [0] * len(self.rows)
+        self.uses = [0] * (first_and(net) + len(net[3]))
         for left, right in net[3]:
             self.uses[left // 2] += 1
             self.uses[right // 2] += 1
@@ -51,10 +50,7 @@ class Covering:
             return ()
         if node < first_and(self.net):
             return (2 * node,)
-        flow = Flow(self.net, self.rows, node, self.rows[node] - 1)
-        # There are at most k paths, so that the last search finds none.
-        flow.grow_to(self.k + 1)
-        leaves = flow.cut()
+        leaves = self.cuts[node]
         other = self.deeper(leaves)
         while other is not None:
             leaves = other
@@ -67,7 +63,7 @@ def cover_of(net, k):
     covering = Covering(net, k)
     for literal in ends_of(net):
         covering.need(literal)
-    for literal in reversed(range(2 * len(covering.rows))):
+    for literal in reversed(range(2 * len(covering.uses))):
         if literal in covering.entries:
             leaves = covering.leaves_of(literal)
             covering.entries[literal] = leaves
