@@ -28,13 +28,13 @@ def inverted(word):
     return [literal ^ 1 for literal in word]
 
 
-def joined_by(ands, action, literals, empty):
-    """The literals joined by a gate of two literals in a tree, empty if there are none."""
+def joined_by(ands, action, literals):
+    """One and more literals joined by a gate of two literals in a tree."""
     rows = list(literals)
     while len(rows) > 1:
         pairs = [action(ands, rows[at], rows[at + 1]) for at in range(0, len(rows) - 1, 2)]
         rows = pairs + rows[2 * len(pairs):]
-    return rows[0] if rows else empty
+    return rows[0]
 
 
 def both(ands, one, other):
@@ -44,17 +44,17 @@ def both(ands, one, other):
 
 def all_of(ands, literals):
     """The literal that is 1 if all literals are."""
-    return joined_by(ands, both, literals, 1)
+    return joined_by(ands, both, literals)
 
 
 def any_of(ands, literals):
     """The literal that is 1 if some of the literals is."""
-    return joined_by(ands, either, literals, 0)
+    return joined_by(ands, either, literals)
 
 
 def odd_of(ands, literals):
     """The literal that is 1 if an odd number of the literals is."""
-    return joined_by(ands, differing, literals, 0)
+    return joined_by(ands, differing, literals)
 
 
 def is_number(ands, word, number):

@@ -117,13 +117,11 @@ class Pushing:
 def least_clock(net):
     """The least clock of a net, a lag paper that has it, and a bar for it."""
     refuse_held(net)
-    if not net[3]:
-        return (0, (), None)
-    low = 0
-    high = clock_of(net, (0,) * len(net[3]))
     lags = (0,) * len(net[3])
-    bar = Pushing(net, 0).bar()
-    # The clock high can be had, by the lags; low cannot, by the bar for low + 1.
+    low = 0
+    high = clock_of(net, lags)
+    bar = Pushing(net, low).bar()
+    # The clock high can be had, by the lags; low cannot, by the bar for low + 1. Without ands both are 0.
     while high - low > 1:
         middle = (low + high) // 2
         pushing = Pushing(net, middle)

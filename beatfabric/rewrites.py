@@ -160,5 +160,6 @@ def rewrites(net):
             continue
         papers.append(paper)
         other = rewritten(search.net, paper)
-        start = first + common_ands(search.net, other)
-        search = Search(other, search.cuts[:start])
+        # The cuts of the first ands stay, for they depend on these ands alone.
+        search = Search(other, search.cuts[:first + common_ands(search.net, other)])
+        start = len(search.cuts)

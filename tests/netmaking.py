@@ -74,3 +74,56 @@ def is_plain(tree):
     if type(tree) is tuple:
         return all(is_plain(part) for part in tree)
     return tree is None or type(tree) in (int, str)
+
+
+def mixed_net(source, inputs=3, regs=2, ands=30, near=8, ends=0):
+    """A tidy net without plainly simple ands, whose nodes are much shared; what nothing uses is an output."""
+    first = 1 + inputs + regs
+    pairs = []
+    tries = 0
+    while len(pairs) < ands and tries < 20 * ands:
+        tries += 1
+        many = first + len(pairs)
+        left = source.randrange(1, many)
+        right = source.randrange(max(1, many - near), many)
+        if left == right:
+            continue
+        pair = tuple(sorted((2 * left + source.randrange(2), 2 * right + source.randrange(2))))
+        if pair not in pairs:
+            pairs.append(pair)
+    many = first + len(pairs)
+    used = {x // 2 for pair in pairs for x in pair}
+    shown_nodes = [node for node in range(first, many) if node not in used]
+    shown_nodes += [source.randrange(1, many) for _ in range(ends)] if many > 1 else []
+    return tidied((
+        "net", tuple(f"i{at}" for at in range(inputs)),
+        tuple((f"r{at}", source.randrange(2), source.randrange(2 * many)) for at in range(regs)), tuple(pairs),
+        tuple((f"y{at}", 2 * node + source.randrange(2)) for at, node in enumerate(shown_nodes)), (),
+    ))
+
+
+def any_mixed_net(source, inputs=6, regs=4, ands=60):
+    """A mixed net of any size up to these."""
+    return mixed_net(
+        source, source.randrange(1, inputs + 1), source.randrange(regs + 1), source.randrange(ands + 1),
+        source.randrange(2, 20), source.randrange(5),
+    )
+
+
+def is_cut(net, root, leaves):
+    """Whether going from a root, never beyond leaves, meets no input and no register but leaves."""
+    first = 1 + len(net[1]) + len(net[2])
+    met = set()
+    todo = [root]
+    while todo:
+        node = todo.pop()
+        if node in met:
+            continue
+        met.add(node)
+        if node in leaves:
+            continue
+        if 0 < node < first:
+            return False
+        if node >= first:
+            todo += [x // 2 for x in net[3][node - first]]
+    return True

@@ -6,7 +6,7 @@ from beatfabric.balance import balanced, least_heights
 from beatfabric.netof import net_of
 from beatfabric.nets import heights, is_net
 from beatfabric.tidy import tidied
-from tests.netmaking import end_tables, is_plain, names_of, random_tidy_net, rows_of_bits, shown
+from tests.netmaking import any_mixed_net, end_tables, is_plain, names_of, random_tidy_net, rows_of_bits, shown
 from tests.test_netof import SHAPES, small_graph
 
 
@@ -118,11 +118,14 @@ class LeastHeightsTest(unittest.TestCase):
     def test_random(self):
         for seed in range(300):
             source = random.Random(seed)
-            net = random_tidy_net(source, source.randrange(1, 5), source.randrange(4), source.randrange(60), 6)
-            told = least_heights(net)
-            self.assertEqual(told, slow_least(net))
-            self.assertEqual(least_heights(net), told)
-            self.assertIs(is_plain(told), True)
+            for net in (
+                random_tidy_net(source, source.randrange(1, 5), source.randrange(4), source.randrange(60), 6),
+                any_mixed_net(source, 8),
+            ):
+                told = least_heights(net)
+                self.assertEqual(told, slow_least(net))
+                self.assertEqual(least_heights(net), told)
+                self.assertIs(is_plain(told), True)
 
 
 class BalancedTest(unittest.TestCase):
@@ -147,11 +150,14 @@ class BalancedTest(unittest.TestCase):
     def test_random(self):
         for seed in range(300):
             source = random.Random(seed)
-            net = random_tidy_net(source, source.randrange(1, 5), source.randrange(4), source.randrange(60), 6)
-            other = self.check(net)
-            self.assertEqual(end_tables(other), end_tables(net))
-            rows = rows_of_bits(source, net, 6)
-            self.assertEqual(shown(other, rows), shown(net, rows))
+            for net in (
+                random_tidy_net(source, source.randrange(1, 5), source.randrange(4), source.randrange(60), 6),
+                any_mixed_net(source, 5, 3),
+            ):
+                other = self.check(net)
+                self.assertEqual(end_tables(other), end_tables(net))
+                rows = rows_of_bits(source, net, 6)
+                self.assertEqual(shown(other, rows), shown(net, rows))
 
     def test_nets_of_graphs(self):
         for seed in range(25):

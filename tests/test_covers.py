@@ -9,7 +9,7 @@ from beatfabric.netof import net_of
 from beatfabric.nets import is_net
 from beatfabric.tidy import tidied
 from tests.mutants import changed, relisted
-from tests.netmaking import is_plain, random_net, random_tidy_net
+from tests.netmaking import any_mixed_net, is_plain, random_net, random_tidy_net
 from tests.test_netof import SHAPES, small_graph
 
 # Inputs 1 to 3, register 4, ands 5 to 8; ends 16, 13, 3, 8.
@@ -301,14 +301,17 @@ class CoveringTest(unittest.TestCase):
     def test_random(self):
         for seed in range(200):
             source = random.Random(seed)
-            net = random_tidy_net(source, source.randrange(1, 9), source.randrange(4), source.randrange(60), 6)
-            for k in (2, 3, 4):
-                self.check(net, k)
+            for net in (
+                random_tidy_net(source, source.randrange(1, 9), source.randrange(4), source.randrange(60), 6),
+                any_mixed_net(source, 8, 4, 70),
+            ):
+                for k in (2, 3, 4):
+                    self.check(net, k)
 
     def test_the_least_depth_of_all_covers(self):
         for seed in range(150):
             source = random.Random(seed)
-            net = random_tidy_net(source, source.randrange(1, 6), source.randrange(3), source.randrange(30), 4)
+            net = any_mixed_net(source, 5, 2, 30)
             for k in (2, 3, 4):
                 depth = depth_of(net, self.check(net, k))
                 for _ in range(10):

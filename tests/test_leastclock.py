@@ -9,7 +9,7 @@ from beatfabric.netof import net_of
 from beatfabric.traces import held_of
 from tests.lagging import all_papers, slow_clock, slow_judge_bar
 from tests.mutants import changed, relisted
-from tests.netmaking import is_plain, random_net
+from tests.netmaking import any_mixed_net, is_plain, random_net
 from tests.test_netof import SHAPES, small_graph
 
 HELD = ("net", ("a",), (("p", 0, 2), ("s", 0, 6)), ((2, 4),), (("y", 8),), ())
@@ -104,6 +104,8 @@ class LeastClockTest(unittest.TestCase):
         for seed in range(300):
             source = random.Random(seed)
             net = random_net(source, source.randrange(4), source.randrange(8), source.randrange(30), 3)
+            if seed % 2:
+                net = any_mixed_net(source, 4, 8, 50)
             if held_of(net):
                 continue
             clock = self.check(net)

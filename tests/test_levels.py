@@ -8,7 +8,7 @@ from beatfabric.covering import cover_of
 from beatfabric.levels import levels
 from beatfabric.netof import net_of
 from tests.mutants import changed, relisted
-from tests.netmaking import is_plain, random_net, random_tidy_net
+from tests.netmaking import any_mixed_net, is_plain, random_net, random_tidy_net
 from tests.test_covers import grown_cover, slow_judge, slow_levels
 from tests.test_netof import SHAPES, small_graph
 
@@ -92,13 +92,16 @@ class LevelsTest(unittest.TestCase):
         highest = 0
         for seed in range(250):
             source = random.Random(seed)
-            net = random_tidy_net(source, source.randrange(1, 9), source.randrange(4), source.randrange(70), 6)
-            for k in (2, 3, 4):
-                told = levels(net, k)
-                self.assertEqual(told, slow_least_levels(net, k))
-                self.assertEqual(levels(net, k), told)
-                self.assertIs(is_plain(told), True)
-                highest = max(highest, max(told, default=0))
+            for net in (
+                random_tidy_net(source, source.randrange(1, 9), source.randrange(4), source.randrange(70), 6),
+                any_mixed_net(source, 8, 4, 70),
+            ):
+                for k in (2, 3, 4):
+                    told = levels(net, k)
+                    self.assertEqual(told, slow_least_levels(net, k))
+                    self.assertEqual(levels(net, k), told)
+                    self.assertIs(is_plain(told), True)
+                    highest = max(highest, max(told, default=0))
         self.assertGreater(highest, 6)
 
     def test_no_cover_has_less(self):
@@ -184,7 +187,7 @@ class BarsTest(unittest.TestCase):
         highest = 0
         for seed in range(150):
             source = random.Random(seed)
-            net = random_tidy_net(source, source.randrange(1, 9), source.randrange(4), source.randrange(60), 6)
+            net = any_mixed_net(source, 8, 4, 60)
             for k in (2, 3, 4):
                 told = levels(net, k)
                 bars = level_bars(net, k)
@@ -241,6 +244,13 @@ class BarsTest(unittest.TestCase):
                 self.assertIs(answer, slow_judge_bars(net, number, told, other), (net, number, told, other))
                 counted[answer] += 1
         self.assertGreater(min(counted.values()), 200)
+
+    def test_paths_do_not_begin_with_0(self):
+        net = ("net", ("a", "b", "c"), (), ((0, 2), (4, 8), (6, 10)), (("y", 12),), ())
+        bars = ((), (), ((1, 4, 5, 6), (2, 5, 6), (3, 6)))
+        self.good((1, 1, 2), bars, 2, net)
+        for path in ((0, 4, 5, 6), (4, 5, 6), (0, 6)):
+            self.bad((1, 1, 2), ((), (), (path, (2, 5, 6), (3, 6))), 2, net)
 
     def test_nets_that_are_not_tidy(self):
         """The judge takes them as they are."""

@@ -13,7 +13,7 @@ from beatfabric.retiming import retimed
 from beatfabric.tidy import tidied
 from beatfabric.traces import held_of
 from tests.lagging import all_papers, greatest_lags, shape_of, slow_retimed
-from tests.netmaking import is_plain, random_net, random_tidy_net, rows_of_bits, shown
+from tests.netmaking import any_mixed_net, is_plain, mixed_net, random_net, rows_of_bits, shown
 from tests.test_netof import SHAPES, small_graph
 
 
@@ -125,13 +125,27 @@ class RetimedTest(unittest.TestCase):
     def test_all_inputs_from_the_starts_on(self):
         for seed in range(60):
             source = random.Random(seed)
-            net = random_tidy_net(source, 2, source.randrange(1, 5), 10, 3)
+            net = mixed_net(source, 2, source.randrange(1, 5), 10)
             if held_of(net):
                 continue
             for lags in (least_clock(net)[1], greatest_lags(net, 4)):
                 other = retimed(net, lags)
                 for row in itertools.product(itertools.product((0, 1), repeat=2), repeat=4):
                     self.assertEqual(list(NetRun(other).beats(row)), list(NetRun(net).beats(row)))
+
+    def test_larger_nets(self):
+        many = 0
+        for seed in range(60):
+            source = random.Random(seed)
+            net = any_mixed_net(source, 4, 6, 30)
+            if held_of(net):
+                continue
+            rows = rows_of_bits(source, net, 15)
+            for lags in (least_clock(net)[1], greatest_lags(net, 3)):
+                many += any(lags)
+                told = self.check(net, lags, rows)
+                self.assertEqual(shape_of(told), shape_of(slow_retimed(net, lags)))
+        self.assertGreater(many, 20)
 
     def test_nets_of_graphs(self):
         many = 0

@@ -5,16 +5,23 @@ import unittest
 
 from beatfabric.netof import net_of
 from beatfabric.nets import is_net
+from beatfabric.rewrites import RECIPES as TOLD
 from beatfabric.rewrites import rewrites
 from beatfabric.rewriting import judge_rewriting, rewritten
 from beatfabric.tidy import tidied
-from tests.netmaking import end_tables, is_plain, names_of, random_tidy_net, rows_of_bits, shown
+from tests.netmaking import (
+    end_tables, is_cut, is_plain, mixed_net, names_of, random_tidy_net, rows_of_bits, shown,
+)
 from tests.test_netof import small_graph
 
 PLAIN = [((), result) for result in range(6)]
 ONE = [((step,), result) for step in itertools.product((2, 3), (4, 5)) for result in (6, 7)]
 XOR = [(steps, result) for steps in (((2, 5), (3, 4), (7, 9)), ((2, 4), (3, 5), (7, 9))) for result in (10, 11)]
 RECIPES = PLAIN + ONE + XOR
+
+
+def ands_in_order(pairs):
+    return tuple(tuple(sorted(pair)) for pair in pairs)
 
 
 class RewritesTest(unittest.TestCase):
@@ -35,7 +42,7 @@ class RewritesTest(unittest.TestCase):
         first = 1 + len(net[1]) + len(net[2])
         for root in range(first, first + len(net[3])):
             for pair in itertools.combinations(range(1, root), 2):
-                for steps, result in RECIPES:
+                for steps, result in RECIPES if is_cut(net, root, pair) else ():
                     paper = (root, pair, steps, result)
                     if judge_rewriting(net, paper):
                         self.assertGreaterEqual(len(rewritten(net, paper)[3]), len(net[3]), (net, paper))
@@ -95,6 +102,50 @@ class RewritesTest(unittest.TestCase):
             self.assertEqual(names_of(other), names_of(net))
             self.assertEqual(end_tables(other), end_tables(net))
         self.assertGreater(found, 60)
+
+    def test_shared_nodes(self):
+        found = 0
+        for seed in range(150):
+            source = random.Random(seed)
+            net = mixed_net(source, source.randrange(2, 5), source.randrange(3), source.randrange(5, 50),
+                            source.randrange(3, 12), source.randrange(6))
+            other = self.improved(net)
+            found += len(rewrites(net))
+            self.is_done(other)
+            self.assertEqual(names_of(other), names_of(net))
+            self.assertEqual(end_tables(other), end_tables(net))
+        self.assertGreater(found, 400)
+
+    def test_all_functions_of_two_leaves(self):
+        """Roots of each function, made of two ands that are alike and share nothing, or of nands."""
+        for one, other in itertools.product((2, 3), (4, 5)):
+            ands = [(one ^ 1, other), (one ^ 1, 7), (one, other ^ 1), (other ^ 1, 11), (9, 13)]
+            net = ("net", ("a", "b"), (), ands_in_order(ands), (("t", 6), ("u", 10), ("y", 14)), ())
+            self.assertEqual(tidied(net), net)
+            left = self.improved(net)
+            self.is_done(left)
+            self.assertEqual(len(left[3]), 3)
+            self.assertEqual(end_tables(left), end_tables(net))
+            nands = ands_in_order([(one, other), (one, 7), (other, 7), (9, 11)])
+            for more, many in (((), 3), ((("n", 6),), 3), ((("p", 8),), 4), ((("p", 8), ("q", 11)), 4)):
+                for end in (12, 13):
+                    net = ("net", ("a", "b"), (), nands, (("y", end),) + more, ())
+                    self.assertEqual(tidied(net), net)
+                    left = self.improved(net)
+                    self.is_done(left)
+                    self.assertLessEqual(len(left[3]), many)
+                    self.assertEqual(end_tables(left), end_tables(net))
+
+    def test_the_recipes_make_the_tables(self):
+        told = []
+        for table, recipes in TOLD.items():
+            for steps, result in recipes:
+                told.append((steps, result))
+                local = [0, 10, 12]
+                for left, right in steps:
+                    local.append((local[left // 2] ^ 15 * (left & 1)) & (local[right // 2] ^ 15 * (right & 1)))
+                self.assertEqual(local[result // 2] ^ 15 * (result & 1), table)
+        self.assertEqual(sorted(told), sorted(RECIPES))
 
     def test_nets_of_graphs(self):
         for seed in range(12):

@@ -192,7 +192,11 @@ class JudgeTest(unittest.TestCase):
                        (-1000000, 1, 2)):
             self.bad(5, leaves, ((2, 4),), 6)
             self.bad(5, leaves, (), 0)
-        self.bad(8, (1, 2, 3, 4, 5), ((2, 4), (3, 5), (13, 15), (16, 6)), 18)
+        self.bad(5, (0, 1, 2), ((4, 6),), 8)
+        net = ("net", tuple("abcde"), (), ((2, 4),), (("y", 12),), ())
+        for many in (2, 3, 4, 5):
+            paper = (6, tuple(range(1, many + 1)), ((2, 4),), 2 * (many + 1))
+            self.assertIs(judge_rewriting(net, paper), many <= 4)
         self.bad(8, tuple(range(1, 500)), (), 0)
         self.bad(8, tuple(range(-500, 500)), (), 0)
 

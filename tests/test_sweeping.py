@@ -6,7 +6,7 @@ from beatfabric.merges import judge_merges, merged
 from beatfabric.netof import net_of
 from beatfabric.nets import support
 from beatfabric.sweeping import merges_of
-from tests.netmaking import is_plain, node_tables, random_net, rows_of_bits, shown
+from tests.netmaking import any_mixed_net, is_plain, node_tables, random_net, rows_of_bits, shown
 from tests.test_netof import SHAPES, small_graph
 from tests.test_refuting import parity
 
@@ -116,6 +116,8 @@ class SweepingTest(unittest.TestCase):
         for seed in range(150):
             source = random.Random(seed)
             net = random_net(source, source.randrange(1, 7), source.randrange(5), source.randrange(40), 6)
+            if seed % 2:
+                net = any_mixed_net(source, 6, 4, 50)
             paper = merges_of(net)
             many += len(paper)
             self.assertEqual(merges_of(net), paper)
@@ -128,7 +130,7 @@ class SweepingTest(unittest.TestCase):
             other = merged(net, paper)
             if len(net[1]) + len(net[2]) <= 8:
                 self.assertEqual(merges_of(other), ())
-        self.assertGreater(many, 1000)
+        self.assertGreater(many, 800)
 
     def test_nets_of_graphs(self):
         for seed in range(15):

@@ -8,7 +8,7 @@ from beatfabric.covers import judge_cover
 from beatfabric.netof import net_of
 from beatfabric.netruns import NetRun
 from beatfabric.tables import TablesRun, tables_of
-from tests.netmaking import is_plain, random_net, random_tidy_net, rows_of_bits, shown
+from tests.netmaking import any_mixed_net, is_plain, random_net, rows_of_bits, shown
 from tests.test_covers import COVER, NET, grown_cover
 from tests.test_netof import SHAPES, small_graph
 from tests.test_rewriting import slow_bit
@@ -106,7 +106,7 @@ class TablesTest(unittest.TestCase):
     def test_covers_of_the_finder(self):
         for seed in range(150):
             source = random.Random(seed)
-            net = random_tidy_net(source, source.randrange(1, 7), source.randrange(4), source.randrange(50), 5)
+            net = any_mixed_net(source)
             for k in (2, 3, 4):
                 self.check(net, cover_of(net, k), rows_of_bits(source, net, 10))
 
