@@ -52,5 +52,5 @@ def level_bars(net, k):
         else:
             flow = Flow(net, rows, node, rows[node] - 2)
             flow.grow_to(k + 1)
-            bars.append(flow.paths(k + 1))
+            bars.append(flow.paths())
     return tuple(bars)
