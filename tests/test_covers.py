@@ -9,7 +9,7 @@ from beatfabric.netof import net_of
 from beatfabric.nets import is_net
 from beatfabric.tidy import tidied
 from tests.mutants import changed, relisted
-from tests.netmaking import any_mixed_net, is_plain, random_net, random_tidy_net
+from tests.netmaking import any_mixed_net, is_cut, is_plain, random_net, random_tidy_net
 from tests.test_netof import SHAPES, small_graph
 
 # Inputs 1 to 3, register 4, ands 5 to 8; ends 16, 13, 3, 8.
@@ -43,19 +43,8 @@ def slow_judge(net, k, cover):
                 return False
             if leaf // 2 == literal // 2 and not (leaf % 2 == 0 and literal % 2 == 1):
                 return False
-        met = set()
-        todo = [literal // 2]
-        while todo:
-            node = todo.pop()
-            if node in met:
-                continue
-            met.add(node)
-            if node in nodes:
-                continue
-            if 1 <= node < first:
-                return False
-            if node >= first:
-                todo += [x // 2 for x in net[3][node - first]]
+        if not is_cut(net, literal // 2, nodes):
+            return False
     ends = ends_of(net)
     if any(end not in plain and end not in literals for end in ends):
         return False
