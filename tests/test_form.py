@@ -39,7 +39,7 @@ NODES = (
     ast.With, ast.withitem, ast.Yield, ast.Call, ast.keyword, ast.Name, ast.Attribute, ast.Subscript, ast.Slice,
     ast.Constant, ast.Tuple, ast.List, ast.Dict, ast.ListComp, ast.DictComp, ast.comprehension, ast.BinOp,
     ast.UnaryOp, ast.BoolOp, ast.Compare, ast.IfExp, ast.JoinedStr, ast.FormattedValue, ast.Load, ast.Store,
-    ast.Add, ast.Sub, ast.Mult, ast.FloorDiv, ast.BitAnd, ast.BitOr, ast.BitXor, ast.LShift, ast.RShift,
+    ast.Add, ast.Sub, ast.Mult, ast.FloorDiv, ast.Mod, ast.BitAnd, ast.BitOr, ast.BitXor, ast.LShift, ast.RShift,
     ast.USub, ast.Not, ast.And, ast.Or, ast.Eq, ast.NotEq, ast.Lt, ast.LtE, ast.Gt, ast.GtE, ast.In, ast.NotIn,
     ast.Is, ast.IsNot,
 )
@@ -59,6 +59,10 @@ def parents_of(tree):
         for child in ast.iter_child_nodes(node):
             above[child] = node
     return above
+
+
+def is_class_method(function):
+    return any(isinstance(row, ast.Name) and row.id == "classmethod" for row in function.decorator_list)
 
 
 def defined_in(tree):
@@ -225,7 +229,7 @@ class FormTest(unittest.TestCase):
         for path, _, tree in parsed():
             for node in ast.walk(tree):
                 if isinstance(node, (ast.FunctionDef, ast.ClassDef)) and node.name not in used | told | DUNDERS:
-                    self.assertIn(node.name, "beat beats resume tried state", f"{path.name}: {node.name}")
+                    self.assertIn(node.name, "beat beats resume tried state of", f"{path.name}: {node.name}")
             for name in defined_in(tree):
                 self.assertIn(name, used | told, path.name)
 
@@ -304,7 +308,7 @@ class FormTest(unittest.TestCase):
                 ):
                     self.iterated_at_once(path, node, above)
                 for word in node.keywords:
-                    self.assertIn(word.arg, ("default", "key", "reverse"), path.name)
+                    self.assertIn(word.arg, ("default", "key", "reverse", "seed"), path.name)
 
     def iterated_at_once(self, path, node, above):
         holder = above[node]
@@ -350,7 +354,8 @@ class FormTest(unittest.TestCase):
                     for row in node.body:
                         if isinstance(row, ast.FunctionDef):
                             methods.setdefault(row.name, []).append(row)
-                            self.assertEqual(row.args.args[0].arg, "self", path.name)
+                            first = "cls" if is_class_method(row) else "self"
+                            self.assertEqual(row.args.args[0].arg, first, path.name)
                         else:
                             self.assertIsInstance(row, ast.Expr, path.name)
         for name, (path, node) in attributes.items():

@@ -40,6 +40,29 @@ FUNCTIONS = {
     "bars": {"level_bars": "net k", "judge_level_bars": "net k levels bars"},
     "covering": {"cover_of": "net k"},
     "tables": {"tables_of": "net cover"},
+    "packing": {"judge_packing": "tables packing", "packing_of": "tables", "cells_of": "tables packing"},
+    "fabrics": {"tiles_of": "fabric", "pads_of": "fabric", "entering": "fabric x y side track"},
+    "places": {
+        "judge_places": "fabric cells places", "length_of": "cells places", "is_good": "fabric cells places",
+    },
+    "placing": {"place": "fabric cells seed=0"},
+    "routes": {
+        "source_of": "fabric cells places routes x y selector", "judge_routes": "fabric cells places routes",
+    },
+    "combs": {"comb_loads": "cells places"},
+    "routing": {"route": "fabric cells places"},
+    "configs": {"config_of": "fabric cells places routes"},
+    "frames": {"frame_of": "data", "read_frame": "many frame"},
+    "streams": {"stream_of": "config", "inspected": "stream", "mended": "stream", "configured": "stream"},
+    "times": {
+        "told_clock": "stream outputs delays", "slow_path": "stream outputs delays",
+        "judge_slow_path": "stream outputs delays clock path",
+    },
+    "comparing": {"compared": "net other", "judge_pairs": "net other pairs"},
+    "claims": {"decided": "net name", "judge_states": "net name states"},
+    "joint": {"joint_net": "net other", "judge_joint": "net other paper", "joint": "net other"},
+    "passes": {"passed": "net word"},
+    "flow": {"build": "design numbers settings", "build_text": "text numbers settings"},
 }
 CLASSES = {
     "treeruns": ("DesignRun", "design numbers=()", "beat beats"),
@@ -47,7 +70,11 @@ CLASSES = {
     "graphruns": ("GraphRun", "graph", "beat beats state resume"),
     "netruns": ("NetRun", "net", "beat beats state resume trial tried"),
     "tables": ("TablesRun", "tables", "beat beats state resume"),
+    "cellruns": ("CellsRun", "cells", "beat beats state resume"),
+    "device": ("Device", "stream inputs outputs", "beat beats state resume trial tried of"),
+    "clocked": ("Clocked", "stream inputs outputs delays period noise=0", "beat beats of"),
 }
+CLASS_METHODS = {"Device": "build", "Clocked": "build period=0 noise=0"}
 METHODS = {"beat": "given", "beats": "rows", "resume": "state", "trial": "", "tried": "rows"}
 
 
@@ -65,6 +92,17 @@ class InterfaceTest(unittest.TestCase):
                 self.assertEqual(function.__module__, f"beatfabric.{file}")
                 self.assertEqual(told(function), parameters, name)
 
+    def test_keywords(self):
+        """The seed is passed by name."""
+        seed = inspect.signature(importlib.import_module("beatfabric.placing").place).parameters["seed"]
+        self.assertEqual(seed.kind, inspect.Parameter.KEYWORD_ONLY)
+
+    def test_what_is_not_there(self):
+        """Runs that have no state have nothing of that name."""
+        for file, name in (("treeruns", "DesignRun"), ("clocked", "Clocked")):
+            kind = getattr(importlib.import_module(f"beatfabric.{file}"), name)
+            self.assertFalse(hasattr(kind, "state") or hasattr(kind, "resume"))
+
     def test_classes(self):
         for file, (name, parameters, methods) in CLASSES.items():
             kind = getattr(importlib.import_module(f"beatfabric.{file}"), name)
@@ -75,6 +113,9 @@ class InterfaceTest(unittest.TestCase):
                 if method == "state":
                     self.assertIsInstance(vars(kind)[method], property)
                     self.assertIsNotNone(vars(kind)[method].fset)
+                elif method == "of":
+                    self.assertIsInstance(vars(kind)[method], classmethod)
+                    self.assertEqual(told(getattr(kind, method)), CLASS_METHODS[name])
                 else:
                     self.assertEqual(told(vars(kind)[method], 1), METHODS[method])
             self.assertTrue(inspect.isgeneratorfunction(vars(kind)["beats"]))
