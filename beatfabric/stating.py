@@ -180,7 +180,7 @@ class Stating(Walk):
             self.drive_name(f"{name}.valid", f"{port}.valid")
             self.drive_name(f"{port}.ready", f"{name}.ready")
 
-    def flat(self):
+    def flat_design(self):
         """The flat design of all that is declared and stated."""
         known = self.known
         regs = []
@@ -203,4 +203,4 @@ def walk_stating(walk):
     """Does the walk through all that is declared; returns the flat design."""
     walk.state_module(walk.known.scopes[""])
     walk.walk()
-    return walk.flat()
+    return walk.flat_design()
