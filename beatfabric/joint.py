@@ -17,6 +17,14 @@ def refuse_unlike(net, other):
         raise Unlike()
 
 
+def joint_literals(net, regs, ands):
+    """The plain literals in a joint net of all nodes of a net, whose registers and ands begin with these nodes."""
+    literals = [2 * node for node in range(1 + len(net[1]))]
+    literals.extend([2 * (regs + at) for at in range(len(net[2]))])
+    literals.extend([2 * (ands + at) for at in range(len(net[3]))])
+    return literals
+
+
 def moved_rows(rows, literals, mark):
     """Outputs, claims or registers with a mark behind their names, and with the literals that theirs become."""
     return tuple([(row[0] + mark,) + row[1:-1] + (moved_literal(literals, row[-1]),) for row in rows])
@@ -25,19 +33,14 @@ def moved_rows(rows, literals, mark):
 def joint_net(net, other):
     """The joint net of two nets."""
     refuse_unlike(net, other)
-    ahead = 1 + len(net[1])
-    first = ahead + len(net[2]) + len(other[2])
-    own = [2 * node for node in range(first_and(net))]
-    own.extend([2 * (first + at) for at in range(len(net[3]))])
-    second = [2 * node for node in range(ahead)]
-    second.extend([2 * (ahead + len(net[2]) + at) for at in range(len(other[2]))])
-    second.extend([2 * (first + len(net[3]) + at) for at in range(len(other[3]))])
+    first = first_and(net)
+    ahead = first + len(other[2])
+    own = joint_literals(net, 1 + len(net[1]), ahead)
+    mates = joint_literals(other, first, ahead + len(net[3]))
     ands = []
-    for part, literals in ((net, own), (other, second)):
+    for part, literals in ((net, own), (other, mates)):
         ands.extend([(moved_literal(literals, left), moved_literal(literals, right)) for left, right in part[3]])
-    regs, outputs, claims = [
-        moved_rows(net[at], own, "") + moved_rows(other[at], second, MARK) for at in (2, 4, 5)
-    ]
+    regs, outputs, claims = [moved_rows(net[at], own, "") + moved_rows(other[at], mates, MARK) for at in (2, 4, 5)]
     return ("net", net[1], regs, tuple(ands), outputs, claims)
 
 
