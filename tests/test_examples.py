@@ -1,12 +1,16 @@
-"""The examples at the end of the document that the program answers so far."""
+"""The examples at the end of the document, all of them."""
 import unittest
 
 from beatfabric.beats import FlatRun
+from beatfabric.device import Device
 from beatfabric.flatten import flatten
+from beatfabric.flow import build_text
+from beatfabric.frames import frame_of, read_frame
 from beatfabric.reading import read_design
 from beatfabric.rings import shortest_ring
 from beatfabric.tidy import tidied
 from beatfabric.tokens import tokens_of
+from beatfabric.traces import traced
 from beatfabric.words import result
 from beatfabric.writing import write_expr
 
@@ -46,6 +50,23 @@ class ExamplesTest(unittest.TestCase):
     def test_tidy(self):
         self.assertEqual(tidied(("net", ("a", "b"), (), ((2, 4), (4, 2), (6, 9)), (("y", 10),), ())),
                          ("net", ("a", "b"), (), (), (("y", 0),), ()))
+
+    def test_traces(self):
+        net = ("net", ("a",), (("r", 1, 2), ("s", 0, 5)), (), (("y", 6),), ())
+        self.assertEqual(traced(net, 6), ((0, 0), 3))
+
+    def test_frames(self):
+        self.assertEqual(frame_of((1, 0, 1)), (1, 0, 1, 1, 0, 1, 0))
+        self.assertEqual(read_frame(3, (1, 1, 1, 1, 0, 1, 0)), ("bit", 1))
+
+    def test_flow(self):
+        shapes = ("ripple", "rows", "steps", "halves")
+        settings = (
+            "settings", "plain", shapes, ("sweep", "balance"), ("fabric", 3, 3, 4, 3), 0, ("delays", 2, 1, 1, 1),
+        )
+        device = Device.of(build_text(COUNTER, (), settings))
+        told = list(device.beats(((1,), (1,), (0,), (1,), (1,))))
+        self.assertEqual(told, [(0, 0), (1, 0), (0, 1), (0, 1), (1, 1)])
 
 
 if __name__ == "__main__":
