@@ -43,9 +43,14 @@ def tied_groups(net):
 
 
 def tied_pairs(net):
-    """Pairs of a register and the literal of the least node, less than its own, to which it is tied."""
+    """Pairs of a register and the literal of the least node, less than its own, to which it is tied.
+
+    There are none if the net has too many inputs and registers.
+    """
     regs = net[2]
     ahead = 1 + len(net[1])
+    if ahead + len(regs) > 1 + MOST_SOURCES:
+        return []
     leaders = {0: 0}
     pairs = []
     for at, group in enumerate(tied_groups(net)):
@@ -59,8 +64,6 @@ def tied_pairs(net):
 
 def bonds_of(net):
     """The finder's bond paper of a net."""
-    if len(net[1]) + len(net[2]) > MOST_SOURCES:
-        return ()
     pairs = tied_pairs(net)
     clauses = bond_clauses(net, pairs)
     paper = []

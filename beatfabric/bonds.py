@@ -57,9 +57,8 @@ def judge_bonds(net, paper):
     return True
 
 
-def bonded(net, paper):
-    """The net that is bonded by a taken paper."""
-    targets = {bond[0]: bond[1] for bond in paper}
+def without_regs(net, targets):
+    """The tidy net in which the registers among targets, a dict, are replaced by their literals."""
     ahead = 1 + len(net[1])
     sources = [2 * node for node in range(ahead)]
     kept = []
@@ -71,3 +70,8 @@ def bonded(net, paper):
             sources.append(2 * (ahead + len(kept)))
             kept.append(reg)
     return remade(net, sources, kept)
+
+
+def bonded(net, paper):
+    """The net that is bonded by a taken paper."""
+    return without_regs(net, {bond[0]: bond[1] for bond in paper})

@@ -51,7 +51,7 @@ class Build:
         self.stream = stream_of(config_of(fabric, self.cells, self.places, self.routes))
         self.delays = delays
         _, _, input_pads, output_pads = self.places
-        self.inputs = tuple(list(zip(self.cells[1], input_pads)))
+        self.inputs = tuple(zip(self.cells[1], input_pads))
         self.outputs = tuple([(name, pad) for (name, _), pad in zip(self.cells[3], output_pads)])
         self.clock = told_clock(self.stream, output_pads, delays)
 

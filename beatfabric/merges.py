@@ -21,10 +21,9 @@ def judge_merges(net, paper):
     return are_ascending([merge[0] for merge in paper]) and all([judge_merge(net, merge) for merge in paper])
 
 
-def merged(net, paper):
-    """The net that is merged by a taken paper."""
+def with_targets(net, targets):
+    """The tidy net in which the ands among targets, a dict, become what their literals have become."""
     first = first_and(net)
-    targets = {merge[0]: merge[1] for merge in paper}
     literals = [2 * node for node in range(first)]
     ands = Ands(first)
     for node, left, right in ands_of(net):
@@ -33,3 +32,8 @@ def merged(net, paper):
         else:
             literals.append(ands.both(moved_literal(literals, left), moved_literal(literals, right)))
     return without_unreached(with_ends(net, net[2], ands.pairs, literals))
+
+
+def merged(net, paper):
+    """The net that is merged by a taken paper."""
+    return with_targets(net, {merge[0]: merge[1] for merge in paper})

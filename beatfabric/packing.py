@@ -3,16 +3,12 @@ from beatfabric.numbering import is_thing
 
 
 def is_pair(tables, pair):
-    """Whether the numbers of a pair exist, and may stand together."""
-    _, inputs, regs, rows, _ = tables
+    """Whether a table and a register may stand together in a pair."""
+    _, inputs, regs, _, _ = tables
     table, reg = pair
-    if table is not None and not is_thing(table, len(rows)):
-        return False
-    if reg is not None and not is_thing(reg, len(regs)):
-        return False
     if table is None or reg is None:
         return table != reg
-    return regs[reg][2] == len(inputs) + len(regs) + table
+    return is_thing(reg, len(regs)) and regs[reg][2] == len(inputs) + len(regs) + table
 
 
 def judge_packing(tables, packing):

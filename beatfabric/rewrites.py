@@ -144,8 +144,11 @@ def common_ands(net, other):
     return many
 
 
-def rewrites(net):
-    """Rewritings, each for the net that is rewritten so far; behind them no told recipe takes an and away."""
+def fully_rewritten(net):
+    """Rewritings, each for the net that is rewritten so far, and the net behind them all.
+
+    For that one no told recipe takes an and away.
+    """
     papers = []
     first = first_and(net)
     search = Search(net, [{} for _ in range(first)])
@@ -153,7 +156,7 @@ def rewrites(net):
     while True:
         paper = search.found(start)
         if paper is None and start == first:
-            return tuple(papers)
+            return tuple(papers), search.net
         if paper is None:
             # Roots ahead of the last change can save ands by it.
             start = first
@@ -163,3 +166,9 @@ def rewrites(net):
         # The cuts of the first ands stay, for they depend on these ands alone.
         search = Search(other, search.cuts[:first + common_ands(search.net, other)])
         start = len(search.cuts)
+
+
+def rewrites(net):
+    """Rewritings, each for the net that is rewritten so far; behind them no told recipe takes an and away."""
+    papers, _ = fully_rewritten(net)
+    return papers

@@ -1,5 +1,5 @@
 """Routings: tracing their selectors, and the judge."""
-from beatfabric.fabrics import is_wire, selected
+from beatfabric.fabrics import selected
 from beatfabric.numbering import are_ascending
 
 
@@ -51,13 +51,6 @@ def source_of(fabric, cells, places, routes, x, y, selector):
     return Tracer(fabric, cells, places, routes).traced(x, y, selector)
 
 
-def are_turns(fabric, turns):
-    """Whether turns are ascending, and their wires exist and select something."""
-    if not are_ascending([wire for wire, _ in turns]):
-        return False
-    return all([is_wire(fabric, wire) and selector != 0 for wire, selector in turns])
-
-
 def are_pins(tracer, tile, leaves, pins):
     """Whether the pins of a cell trace to its leaves."""
     if len(pins) != tracer.fabric[4] or any(pins[len(leaves):]):
@@ -68,7 +61,7 @@ def are_pins(tracer, tile, leaves, pins):
 def judge_routes(fabric, cells, places, routes):
     """Whether a routing is right for a taken placement."""
     word, pins, turns = routes
-    if word != "routes" or len(pins) != len(cells[2]) or not are_turns(fabric, turns):
+    if word != "routes" or len(pins) != len(cells[2]) or not are_ascending([wire for wire, _ in turns]):
         return False
     tracer = Tracer(fabric, cells, places, routes)
     for tile, (leaves, _, _), row in zip(places[1], cells[2], pins):
@@ -76,4 +69,5 @@ def judge_routes(fabric, cells, places, routes):
             return False
     if not all([tracer.pad_ref(pad) == ref for pad, (_, ref) in zip(places[3], cells[3])]):
         return False
+    # A wire that does not exist is never met, and nothing is traced by a wire with the selector 0.
     return all([wire in tracer.met for wire, _ in turns])

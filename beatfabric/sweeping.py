@@ -111,22 +111,22 @@ class Likeness:
 
 
 def like_literals(net):
-    """Pairs of an and and the literal of the least node ahead of it that is alike or opposite."""
+    """For each and that is alike or opposite to a node ahead of it the literal of the least one."""
     likeness = Likeness(net)
-    pairs = []
+    literals = {}
     for node, left, right in ands_of(net):
         likeness.add_and(left, right)
         literal = likeness.like_literal(node)
         if literal is not None:
-            pairs.append((node, literal))
+            literals[node] = literal
         likeness.remember(node)
-    return pairs
+    return literals
 
 
 def merges_of(net):
     """The finder's merge paper of a net."""
     paper = []
-    for node, literal in like_literals(net):
+    for node, literal in like_literals(net).items():
         _, differ_steps = refutation(net, (), (2 * node, literal ^ 1))
         _, other_steps = refutation(net, (), (2 * node + 1, literal))
         paper.append((node, literal, differ_steps, other_steps))

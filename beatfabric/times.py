@@ -1,5 +1,4 @@
 """When the bits of a device have arrived, and slow paths."""
-from beatfabric.fabrics import pads_of
 from beatfabric.streams import configured
 from beatfabric.wiring import Wiring
 
@@ -18,8 +17,8 @@ class Times:
             self.awaited[("table", tile)] = self.arrivals[("table", tile)] + self.setup
 
     def selected(self, node):
-        """The nodes that a table or wire selects."""
-        return [other for other in self.wiring.links[node] if other is not None]
+        """The nodes that a table or wire selects, none for other nodes."""
+        return [other for other in self.wiring.links.get(node, []) if other is not None]
 
     def source_arrival(self, node):
         """The arrival of a node that is selected, when those of the tables and wires ahead of it are known."""
@@ -43,26 +42,18 @@ class Times:
     def way_to(self, node):
         """The nodes on a slowest way to a node, from its beginning on."""
         way = [node]
-        while way[-1] in self.wiring.links and self.selected(way[-1]):
-            sources = self.selected(way[-1])
+        sources = self.selected(node)
+        while sources:
             rows = [self.source_arrival(other) for other in sources]
             way.append(sources[rows.index(max(rows))])
+            sources = self.selected(way[-1])
         return way[::-1]
 
-    def can_begin(self, node):
-        """Whether a slow path can begin with a node."""
-        word, place = node
-        if node in self.wiring.links:
-            return not self.selected(node)
-        if word == "pad":
-            return place in pads_of(self.wiring.fabric)
-        return word == "reg" and place in self.wiring.tiles
-
     def is_way(self, nodes):
-        """Whether nodes are those of a slow path."""
-        if not self.can_begin(nodes[0]) or nodes[-1] not in self.awaited:
+        """Whether nodes are those of a slow path; each but the last one exists, for it is selected."""
+        if self.selected(nodes[0]) or nodes[-1] not in self.awaited:
             return False
-        return all([other in self.wiring.links.get(node, []) for other, node in zip(nodes, nodes[1:])])
+        return all([other in self.selected(node) for other, node in zip(nodes, nodes[1:])])
 
     def delay_of(self, nodes):
         """The delays of a slow path together."""
@@ -81,7 +72,7 @@ def slow_path(stream, outputs, delays):
     times = Times(stream, outputs, delays)
     clock = times.told()
     for node, arrival in times.awaited.items():
-        if clock > 1 and arrival == clock:
+        if arrival == clock:
             return tuple([(word,) + place for word, place in times.way_to(node)])
     return ()
 

@@ -1,6 +1,7 @@
 """Combs, and the finder of routings."""
 import random
 import unittest
+import unittest.mock
 
 from beatfabric.combs import comb_loads
 from beatfabric.crowding import settled_trees
@@ -27,13 +28,17 @@ def across(many, tracks):
     )
 
 
-def around(many, tracks):
-    """The same over the middle row of a fabric of three rows, so that other rows are free."""
-    fabric = ("fabric", 3, 3, tracks, 2)
-    cells = across(many, tracks)[1]
-    pads = [(0, 1, 3, track) for track in range(tracks)] + [(1, 0, 0, track) for track in range(tracks)]
-    shown = [(2, 1, 1, track) for track in range(tracks)] + [(1, 2, 2, track) for track in range(tracks)]
-    return fabric, cells, ("places", (), tuple(pads[:many]), tuple(shown[:many]))
+def around(more, tracks):
+    """As many nets down a column as there are tracks, and more whose combs go down there, too; other ways are free."""
+    fabric = ("fabric", 3, 3, tracks, 4)
+    leaves = tuple(("in", tracks + at) for at in range(more))
+    cells = (
+        "cells", tuple(f"i{at}" for at in range(tracks + more)), ((leaves, (1,) * 2 ** more, None),),
+        tuple((f"y{at}", ("in", at)) for at in range(tracks)),
+    )
+    sources = [(1, 0, 0, track) for track in range(tracks)]
+    sources += [(0, 0, side, track) for track in range(tracks) for side in (0, 3)][:more]
+    return fabric, cells, ("places", ((1, 1),), tuple(sources), tuple((1, 2, 2, track) for track in range(tracks)))
 
 
 class CombsTest(unittest.TestCase):
@@ -111,9 +116,12 @@ class RouteTest(unittest.TestCase):
 
     def test_detours(self):
         """Combs that are too many for a side, with room on other sides."""
-        for tracks in (1, 2, 5):
-            for many in range(tracks, 2 * tracks + 1):
-                self.check(*around(many, tracks))
+        for tracks in (1, 2, 5, 12):
+            for more in range(min(4, 2 * tracks) + 1):
+                fabric, cells, places = around(more, tracks)
+                self.assertEqual(dict(comb_loads(cells, places))[(1, 0, 2)], tracks + more)
+                if more <= tracks + 1:
+                    self.check(fabric, cells, places)
         fabric = ("fabric", 2, 2, 1, 2)
         cells = ("cells", ("a", "b"), (), (("y", ("in", 0)), ("z", ("in", 1))))
         places = ("places", (), ((0, 0, 0, 0), (0, 0, 3, 0)), ((1, 1, 1, 0), (1, 1, 2, 0)))
@@ -135,6 +143,19 @@ class RouteTest(unittest.TestCase):
         self.assertGreater(counted["room"], 200)
         self.assertGreater(counted["found"], 20)
         self.assertGreater(counted["refused"], 5)
+
+    def test_combs_that_have_room_are_taken(self):
+        """They need no trees that give way to each other."""
+        with unittest.mock.patch("beatfabric.routing.settled_trees", lambda fabric, nets: None):
+            for tracks in range(1, 13):
+                self.check(*across(tracks, tracks))
+                with self.assertRaises(NotRoutable):
+                    route(*around(1, tracks))
+            for seed in range(200):
+                source = random.Random(seed)
+                fabric, cells, places = random_placed(source, columns=5, rows=5, tracks=3)
+                if all(many <= fabric[3] for _, many in comb_loads(cells, places)):
+                    self.check(fabric, cells, places)
 
     def test_just_enough_tracks(self):
         """As many tracks as the side with the most nets needs, and pads on all of them."""
