@@ -1,12 +1,11 @@
 """Devices that are clocked: what stands on their wires at every moment.
 
-A wave is an integer with a bit for each moment of a beat and of the LEAD moments ahead of it, the first moment lowest.
+A wave is an integer with a bit for each moment of a beat and of some moments ahead of it, as many as the greatest delay
+has, the first moment lowest.
 """
 from beatfabric.streams import configured
 from beatfabric.wiring import Wiring
 
-# The greatest delay.
-LEAD = 4
 NOISE_BITS = 30
 
 
@@ -21,8 +20,9 @@ def chosen(bits, waves, full):
 class Clocked:
     """A run of a clocked device.
 
-    tails has for each node what it was at the LEAD moments ahead of the beat, as a wave of these alone. What a register
-    contains, and what it shows by its start delay later, are nodes of their own, "content" and "reg".
+    lead is the number of moments ahead of a beat; tails has for each node what it was at these, as a wave of them
+    alone. What a register contains, and what it shows by its start delay later, are nodes of their own, "content" and
+    "reg".
     """
 
     def __init__(self, stream, inputs, outputs, delays, period, noise=0):
@@ -30,14 +30,16 @@ class Clocked:
         self.wiring = Wiring(configured(stream))
         self.inputs = inputs
         self.outputs = outputs
+        self.lead = max(self.table, self.hop, self.start, self.setup)
         self.period = period
-        # The wave that is 1 in the beat and at the moment of its end.
+        # The waves that are 1 ahead of the beat, and in the beat and at the moment of its end.
+        self.ahead = (1 << self.lead) - 1
         self.full = (1 << (period + 1)) - 1
         self.order = self.wiring.ordered(outputs)
         self.now = self.wiring.starts
         self.tails = {None: 0}
         for node in self.waved_nodes():
-            self.tails[node] = ((1 << LEAD) - 1) * self.noise_bit(node, noise)
+            self.tails[node] = self.ahead * self.noise_bit(node, noise)
 
     @classmethod
     def of(cls, build, period=0, noise=0):
@@ -67,11 +69,11 @@ class Clocked:
 
     def later(self, wave, delay):
         """What a wave is so many moments later, in the beat and the moment of its end."""
-        return (wave >> (LEAD - delay)) & self.full
+        return (wave >> (self.lead - delay)) & self.full
 
     def whole(self, node, wave):
         """The wave of a node, given that from the beginning of the beat on."""
-        return self.tails[node] + (wave << LEAD)
+        return self.tails[node] + (wave << self.lead)
 
     def source_waves(self, given):
         """The waves of all nodes but tables and wires."""
@@ -95,10 +97,10 @@ class Clocked:
             else:
                 pins = [self.later(wave, self.table) for wave in selected]
                 waves[node] = self.whole(node, chosen(self.wiring.tables[node[1]], pins, self.full))
-        end = self.period + LEAD
+        end = self.period + self.lead
         tables = [waves[("table", tile)] for tile in self.wiring.tiles]
         self.now = tuple([(wave >> (end - self.setup)) & 1 for wave in tables])
-        self.tails = {node: (wave >> self.period) & ((1 << LEAD) - 1) for node, wave in waves.items()}
+        self.tails = {node: (wave >> self.period) & self.ahead for node, wave in waves.items()}
         return tuple([(waves[("wire", pad)] >> end) & 1 for pad in self.outputs])
 
     def beats(self, rows):

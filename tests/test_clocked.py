@@ -125,6 +125,13 @@ class SlowTest(unittest.TestCase):
             noise = source.choice((0, ALL_ONES, source.randrange(2 ** 30)))
             self.check(source, config, inputs, outputs, delays, source.randrange(1, 12), noise, 8)
 
+    def test_greater_delays(self):
+        """Somewhat beyond their limits."""
+        for source, config, inputs, outputs in some_devices(40):
+            delays = ("delays", source.randrange(1, 8), source.randrange(1, 8), source.randrange(8), source.randrange(8))
+            noise = source.randrange(2 ** 32)
+            self.check(source, config, inputs, outputs, delays, source.randrange(1, 12), noise, 6)
+
     def test_all_short_periods(self):
         for source, config, inputs, outputs in some_devices(12):
             for period in range(1, 25):
