@@ -33,13 +33,13 @@ class Clocked:
         self.lead = max(self.table, self.hop, self.start, self.setup)
         self.period = period
         # The waves that are 1 ahead of the beat, and in the beat and at the moment of its end.
-        self.ahead = (1 << self.lead) - 1
+        self.full_tail = (1 << self.lead) - 1
         self.full = (1 << (period + 1)) - 1
         self.order = self.wiring.ordered(outputs)
         self.now = self.wiring.starts
         self.tails = {None: 0}
         for node in self.waved_nodes():
-            self.tails[node] = self.ahead * self.noise_bit(node, noise)
+            self.tails[node] = self.full_tail * self.noise_bit(node, noise)
 
     @classmethod
     def of(cls, build, period=0, noise=0):
@@ -100,7 +100,7 @@ class Clocked:
         end = self.period + self.lead
         tables = [waves[("table", tile)] for tile in self.wiring.tiles]
         self.now = tuple([(wave >> (end - self.setup)) & 1 for wave in tables])
-        self.tails = {node: (wave >> self.period) & self.ahead for node, wave in waves.items()}
+        self.tails = {node: (wave >> self.period) & self.full_tail for node, wave in waves.items()}
         return tuple([(waves[("wire", pad)] >> end) & 1 for pad in self.outputs])
 
     def beats(self, rows):
