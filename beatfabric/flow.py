@@ -13,7 +13,7 @@ from beatfabric.reading import read_design
 from beatfabric.routing import route
 from beatfabric.streams import stream_of
 from beatfabric.tables import tables_of
-from beatfabric.times import told_clock
+from beatfabric.times import Times
 
 
 def coded_graph(flat, style):
@@ -48,12 +48,13 @@ class Build:
         self.cells = net_cells(self.net, fabric[4])
         self.places = place(fabric, self.cells, seed=seed)
         self.routes = route(fabric, self.cells, self.places)
-        self.stream = stream_of(config_of(fabric, self.cells, self.places, self.routes))
+        config = config_of(fabric, self.cells, self.places, self.routes)
+        self.stream = stream_of(config)
         self.delays = delays
         _, _, input_pads, output_pads = self.places
         self.inputs = tuple(zip(self.cells[1], input_pads))
         self.outputs = tuple([(name, pad) for (name, _), pad in zip(self.cells[3], output_pads)])
-        self.clock = told_clock(self.stream, output_pads, delays)
+        self.clock = Times(config, output_pads, delays).told()
 
 
 def build(design, numbers, settings):

@@ -4,11 +4,14 @@ from beatfabric.wiring import Wiring
 
 
 class Times:
-    """The arrivals in a device; awaited has for each node that a clock waits for the least clock that does."""
+    """The arrivals in a configured device.
 
-    def __init__(self, stream, outputs, delays):
+    awaited has for each node that a clock must wait for the least clock that does.
+    """
+
+    def __init__(self, config, outputs, delays):
         _, self.table, self.hop, self.start, self.setup = delays
-        self.wiring = Wiring(configured(stream))
+        self.wiring = Wiring(config)
         self.arrivals = {}
         for node in self.wiring.ordered(outputs):
             self.arrivals[node] = self.arrival(node)
@@ -64,12 +67,12 @@ class Times:
 
 def told_clock(stream, outputs, delays):
     """The told clock of a stream with output pads."""
-    return Times(stream, outputs, delays).told()
+    return Times(configured(stream), outputs, delays).told()
 
 
 def slow_path(stream, outputs, delays):
     """A slow path that is taken for the told clock."""
-    times = Times(stream, outputs, delays)
+    times = Times(configured(stream), outputs, delays)
     clock = times.told()
     for node, arrival in times.awaited.items():
         if arrival == clock:
@@ -81,6 +84,6 @@ def judge_slow_path(stream, outputs, delays, clock, path):
     """Whether a slow path is right for a clock."""
     if not path:
         return clock == 1
-    times = Times(stream, outputs, delays)
+    times = Times(configured(stream), outputs, delays)
     nodes = [(place[0], place[1:]) for place in path]
     return times.is_way(nodes) and times.delay_of(nodes) == clock

@@ -299,6 +299,14 @@ class ErrorsTest(FlowCase):
             self.raised(errors.NotRoutable, design, (), settings_of(("fabric", 4, 1, 1, 4), ("sweep",), seed=seed))
             self.same(design, (), settings_of(("fabric", 4, 1, 4, 4), ("sweep",), seed=seed))
 
+    def test_fabrics_beyond_the_limits(self):
+        """They are built, too; but no stream can tell of them."""
+        for fabric in (("fabric", 9, 8, 4, 3), ("fabric", 3, 3, 13, 3), ("fabric", 3, 3, 4, 5)):
+            made = build_text(COUNTER, (), settings_of(fabric))
+            self.assertIs(judge_routes(fabric, made.cells, made.places, made.routes), True)
+            with self.assertRaises(errors.BadStream):
+                Device.of(made)
+
     def test_nothing_else_is_raised(self):
         """For designs that the checker lets: TooLarge, NotRoutable, or a build."""
         found = {"build": 0, "TooLarge": 0, "NotRoutable": 0}
